@@ -1,0 +1,1 @@
+"""Latecomers: when is a late listener level with the others."""
