@@ -1,7 +1,8 @@
 """Listeners: programs of a few controls and cells that hear messages."""
 
 from latecomers.errors import NoListener, NoMessage, NoRule, NoStand, NoWord
-from latecomers.values import form_value, is_index, is_integer_from, is_list_of, is_tuple_of_integers
+from latecomers.values import (
+    combined, copied, form_value, is_index, is_integer_from, is_list_of, is_tuple_of_integers, unit_form)
 
 MOST_KINDS = 3
 MOST_CONTROLS = 3
@@ -115,25 +116,10 @@ class Listener:
             raise NoStand()
 
 
-def copied(rows):
-    """Return the rows as a new list of new lists."""
-    return [list(row) for row in rows]
-
-
 def cells_of(rules):
     """Return the number of cells for which the first of the rules has rows."""
     behind, rows = rules[0][0]
     return len(rows)
-
-
-def unit_form(width, index):
-    """Return the form whose value is the entry of a vector at this index."""
-    return [1 if at == index else 0 for at in range(width)]
-
-
-def combined(row, forms):
-    """Return the sum of the forms, each of them times its entry of the row."""
-    return [form_value(row, column) for column in zip(*forms)]
 
 
 def is_stand(controls, cells, value):

@@ -3,7 +3,7 @@
 from latecomers.divisors import pivot_of, vector_divisor
 from latecomers.errors import NoMatrix, NoSpace, NoVector, NoWidth
 from latecomers.spans import basis_span, span_of, vanishing_basis
-from latecomers.values import form_value, is_integer_from, is_vector
+from latecomers.values import ascends, form_value, is_integer_from, is_vector
 
 MOST_WIDTH = 9
 
@@ -119,8 +119,3 @@ def is_space(value):
         if vector[pivot] < 0 or [row[pivot] for row in value].count(0) != len(value) - 1:
             return False
     return all([vector_divisor(vector) == 1 for vector in value])
-
-
-def ascends(numbers):
-    """Tell whether each of the numbers is greater than the one before it."""
-    return all([low < high for low, high in zip(numbers, numbers[1:])])

@@ -34,3 +34,28 @@ def is_tuple_of_integers(value, length):
 def form_value(form, vector):
     """Return the value of the form on the vector: the sum of the products."""
     return sum([factor * entry for factor, entry in zip(form, vector)])
+
+
+def ascends(items):
+    """Tell whether each of the numbers, or of the tuples of numbers, is greater than the one before it."""
+    return all([low < high for low, high in zip(items, items[1:])])
+
+
+def vanishes(form, vectors):
+    """Tell whether the value of the form on each of the vectors is 0."""
+    return all([form_value(form, vector) == 0 for vector in vectors])
+
+
+def unit_form(width, index):
+    """Return the form whose value is the entry of a vector at this index."""
+    return [1 if at == index else 0 for at in range(width)]
+
+
+def combined(row, forms):
+    """Return the sum of the forms, each of them times its entry of the row."""
+    return [form_value(row, column) for column in zip(*forms)]
+
+
+def copied(rows):
+    """Return the rows as a new list of new lists."""
+    return [list(row) for row in rows]

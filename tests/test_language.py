@@ -40,11 +40,17 @@ INTERFACE = {
         NoCell NoNumber NoVector NoMessage NoListener NoScript NoChaser TooGreat NoSender NoText""",
     "spaces": "space in_space joined common image vanishing",
     "listeners": "Listener",
+    "scripts": "Script script_hear compiled",
+    "senders": "Sender",
+    "reach": "reach settle table_fault run_fault",
+    "late": "entries after level when_sure late_run sure_cells last_claims",
 }
 
 LISTED_METHODS = {
     "Listener": """__init__ __eq__ __getitem__ kind_count control_count cell_count start hear hear_all seen
         word_map""",
+    "Script": "__init__",
+    "Sender": "__init__ state_count ways states_behind lets",
 }
 
 
@@ -142,6 +148,18 @@ class LanguageTest(unittest.TestCase):
             for operator, other in zip(node.ops, node.comparators):
                 if isinstance(operator, (ast.Is, ast.IsNot)):
                     self.assertTrue(isinstance(other, ast.Constant) and other.value in (None, True, False), where)
+
+    def test_stars_and_sets(self):  # L7, L24
+        for where, node in self.nodes(ast.Subscript):
+            self.assertFalse([inner for inner in ast.walk(node.slice) if isinstance(inner, ast.Starred)], where)
+        placed = set()
+        for where, node in self.nodes(ast.Call, ast.Compare):
+            if isinstance(node, ast.Compare):
+                placed |= {id(other) for other in [node.left, *node.comparators]}
+            elif isinstance(node.func, ast.Name) and node.func.id in ("sorted", "len"):
+                placed |= {id(argument) for argument in node.args}
+        for where, node in self.nodes(ast.Set, ast.SetComp):
+            self.assertIn(id(node), placed, where)
 
     def test_names(self):  # L8, L12, L15, L17
         imported = {alias.name for _, node in self.nodes(ast.ImportFrom) for alias in node.names}

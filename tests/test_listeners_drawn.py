@@ -3,43 +3,8 @@
 import random
 import unittest
 
+from drawing import drawn_message, drawn_parts, drawn_stand, heard
 from latecomers.listeners import Listener
-
-
-def drawn_parts(draw):
-    """Return burdens, rules and shows of a listener."""
-    kinds, controls, cells = draw.randint(1, 3), draw.randint(1, 3), draw.randint(1, 3)
-    most = draw.choice([1, 2, 9])
-
-    def row(length):
-        return [draw.randint(-most, most) for _ in range(length)]
-
-    burdens = [draw.randint(0, 2) for _ in range(kinds)]
-    rules = [[(draw.randrange(controls), [row(1 + cells + burden) for _ in range(cells)]) for burden in burdens]
-             for _ in range(controls)]
-    shows = [[row(1 + cells) for _ in range(draw.randint(0, 2))] for _ in range(controls)]
-    return burdens, rules, shows
-
-
-def drawn_stand(draw, parts):
-    _, rules, _ = parts
-    cells = tuple(draw.randint(-10 ** 60 + 1, 10 ** 60 - 1) for _ in rules[0][0][1])
-    return draw.randrange(len(rules)), cells
-
-
-def drawn_message(draw, burdens, kind):
-    most = draw.choice([1, 10 ** 60 - 1])
-    return kind, tuple(draw.randint(-most, most) for _ in range(burdens[kind]))
-
-
-def heard(parts, stand, message):
-    """Do what the document says of one message, from the parts alone."""
-    (control, cells), (kind, numbers) = stand, message
-    behind, rows = parts[1][control][kind]
-    after = []
-    for constant, *factors in rows:
-        after.append(constant + sum(x * y for x, y in zip(factors, cells + numbers, strict=True)))
-    return behind, tuple(after)
 
 
 class DrawnListenersTest(unittest.TestCase):

@@ -1,0 +1,167 @@
+"""Drawn inputs, and what one message does, from the document alone."""
+
+import copy
+
+from independent import canonical
+
+
+def drawn_parts(draw):
+    """Return burdens, rules and shows of a listener."""
+    kinds, controls, cells = draw.randint(1, 3), draw.randint(1, 3), draw.randint(1, 3)
+    most = draw.choice([1, 2, 9])
+
+    def row(length):
+        return [draw.randint(-most, most) for _ in range(length)]
+
+    burdens = [draw.randint(0, 2) for _ in range(kinds)]
+    rules = [[(draw.randrange(controls), [row(1 + cells + burden) for _ in range(cells)]) for burden in burdens]
+             for _ in range(controls)]
+    shows = [[row(1 + cells) for _ in range(draw.randint(0, 2))] for _ in range(controls)]
+    return burdens, rules, shows
+
+
+def drawn_stand(draw, parts):
+    _, rules, _ = parts
+    cells = tuple(draw.randint(-10 ** 60 + 1, 10 ** 60 - 1) for _ in rules[0][0][1])
+    return draw.randrange(len(rules)), cells
+
+
+def drawn_message(draw, burdens, kind):
+    most = draw.choice([1, 10 ** 60 - 1])
+    return kind, tuple(draw.randint(-most, most) for _ in range(burdens[kind]))
+
+
+def heard(parts, stand, message):
+    """Do what the document says of one message, from the parts alone."""
+    (control, cells), (kind, numbers) = stand, message
+    behind, rows = parts[1][control][kind]
+    after = []
+    for constant, *factors in rows:
+        after.append(constant + sum(x * y for x, y in zip(factors, cells + numbers, strict=True)))
+    return behind, tuple(after)
+
+
+def plain_row(draw, cells, burden, at):
+    """Return a row that keeps, copies, sets, adds or mixes a little."""
+    row = [0] * (1 + cells + burden)
+    choice = draw.randrange(7)
+    if choice < 2:
+        row[1 + at] = 1
+    elif choice == 2:
+        row[1 + draw.randrange(cells)] = 1
+    elif choice == 3:
+        row[0] = draw.choice([0, 0, 1, -2])
+    elif choice == 4 and burden:
+        row[1 + cells + draw.randrange(burden)] = draw.choice([1, 1, -1, 3])
+    elif choice == 5 and burden:
+        row[1 + at] = 1
+        row[1 + cells + draw.randrange(burden)] = 1
+    else:
+        row = [draw.choice([0, 0, 1, -1, 2]) for _ in row]
+    return row
+
+
+def plain_parts(draw, controls=None, burdens=None):
+    """Return burdens, rules and shows of a listener in which some cells are right from some message on."""
+    if burdens is None:
+        burdens = [draw.choice([0, 0, 1, 1, 2]) for _ in range(draw.randint(1, 3))]
+    controls = controls or draw.choice([1, 2, 2, 3])
+    cells = draw.randint(1, 3)
+    rules = [[(draw.randrange(controls), [plain_row(draw, cells, burden, at) for at in range(cells)])
+              for burden in burdens] for _ in range(controls)]
+    return burdens, rules, [[] for _ in range(controls)]
+
+
+def drawn_ways(draw, kinds):
+    """Return the ways of a sender that emits at most so many kinds."""
+    states = draw.randint(1, 2)
+    all_ways = [(kind, state) for kind in range(kinds) for state in range(states)]
+    few = min(draw.choice([1, 1, 2, 3]), len(all_ways))
+    return [sorted(draw.sample(all_ways, draw.choice([1, few]))) for _ in range(states)]
+
+
+def drawn_let_word(draw, ways, state, length):
+    """Return the kinds along drawn ways, and the state at which they end."""
+    word = []
+    for _ in range(length):
+        kind, state = draw.choice(ways[state])
+        word.append(kind)
+    return word, state
+
+
+def small_message(draw, burdens, kind):
+    return kind, tuple(draw.randint(-5, 5) for _ in range(burdens[kind]))
+
+
+def drawn_forms(draw, width, most):
+    """Return a few forms: differences, single entries, zero forms and any others."""
+    forms = []
+    for _ in range(draw.choice([0, 1, 1, most])):
+        form = [0] * width
+        choice = draw.randrange(5)
+        if choice == 0:
+            form = [draw.randint(-2, 2) for _ in range(width)]
+        elif choice < 4:
+            form[draw.randrange(width)] = 1
+            form[draw.randrange(width)] -= 1 if choice < 3 else 0
+        forms.append(form)
+    return forms
+
+
+def drawn_script_parts(draw):
+    """Return burdens, cells, blocks and shows of a script."""
+    burdens = [draw.randint(0, 2) for _ in range(draw.randint(1, 3))]
+    controls, cells, most = draw.randint(1, 3), draw.randint(1, 3), draw.choice([1, 1, 2, 9])
+
+    def row(length):
+        return [draw.choice([0, 0, draw.randint(-most, most)]) for _ in range(length)]
+
+    def statement(burden):
+        word = draw.choice(["set", "add", "swap", "go"])
+        if word == "go":
+            return word, draw.randrange(controls)
+        if word == "swap":
+            return word, draw.randrange(cells), draw.randrange(cells)
+        return word, draw.randrange(cells), row(1 + cells + burden)
+
+    blocks = [[[statement(burden) for _ in range(draw.randint(0, 6))] for burden in burdens] for _ in range(controls)]
+    shows = [[row(1 + cells) for _ in range(draw.randint(0, 2))] for _ in range(controls)]
+    return burdens, cells, blocks, shows
+
+
+def spoiled_table(draw, table):
+    """Return the table after a few changes at drawn places."""
+    thing = copy.deepcopy(table)
+    for _ in range(draw.choice([1, 1, 2])):
+        if thing:
+            spoil_item(draw, thing)
+    if thing and draw.random() < 0.2:
+        at = draw.randrange(len(thing))
+        thing[at] = draw.choice([list(thing[at]), thing[at][:-1], thing[at][1:], None, (*thing[at], [])])
+    return thing
+
+
+def spoil_item(draw, thing):
+    """Change the thing, a list of keys with spaces, at one place."""
+    at = draw.randrange(len(thing))
+    *key, basis = thing[at]
+    width = len(basis[0]) if basis else 1
+    choice = draw.randrange(11)
+    if choice == 0:
+        del thing[at]
+    elif choice == 1:
+        thing.insert(draw.randrange(len(thing) + 1), copy.deepcopy(thing[at]))
+    elif choice == 2 and basis:
+        draw.choice(basis)[draw.randrange(width)] += draw.choice([1, -1])
+    elif choice == 3 and basis:
+        basis.pop(draw.randrange(len(basis)))
+    elif choice == 4:
+        key[draw.randrange(len(key))] = draw.randint(-1, 3)
+        thing[at] = (*key, basis)
+    elif choice == 5:
+        draw.shuffle(thing)
+    elif choice > 5:
+        # Another space, most often a greater one, that is well formed still.
+        vector = [draw.choice([0, 0, 1, draw.randint(-3, 3)]) for _ in range(width)]
+        kept = basis if choice > 7 else basis[:-1]
+        thing[at] = (*key, canonical(kept + [vector]))
