@@ -1,6 +1,7 @@
 """Claims about a listener, and joint claims about it and a late one."""
 
 from latecomers.errors import NoClaims
+from latecomers.tables import has_all_keys
 from latecomers.values import is_list_of, is_vector, vanishes
 
 MOST_CLAIMS = 3
@@ -18,12 +19,10 @@ def check_claims(listener, value):
 
 def check_joint_claims(hearers, value):
     """Raise NoClaims if the value does not have, for exactly all keys, 0 to 7 forms."""
-    known = hearers.all_keys()
-    if not isinstance(value, dict) or len(value) != len(known):
+    if not has_all_keys(hearers, value):
         raise NoClaims()
-    for key in known:
-        if key not in value or not are_forms(MOST_JOINT_CLAIMS, hearers.width, value[key]):
-            raise NoClaims()
+    if not all([are_forms(MOST_JOINT_CLAIMS, hearers.width, value[key]) for key in value]):
+        raise NoClaims()
 
 
 def are_forms(most, width, value):
@@ -45,3 +44,9 @@ def first_broken(claims, bases):
             if not vanishes(form, bases[key]):
                 return key, index
     return None
+
+
+def all_hold(claims, states, one, other):
+    """Tell whether at each of these states all claims of the key hold at the pair of stands."""
+    vector = [1, *one[1], *other[1]]
+    return all([vanishes(form, [vector]) for state in states for form in claims[state, one[0], other[0]]])

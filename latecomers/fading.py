@@ -1,6 +1,6 @@
 """The tables of pairs of stands behind 0, 1, 2 .. messages after an entry."""
 
-from latecomers.search import Search
+from latecomers.search import search_from_start
 from latecomers.spans import Span
 from latecomers.tables import Hearers
 from latecomers.values import unit_form
@@ -15,7 +15,7 @@ class Fading:
 
     def __init__(self, listener, sender):
         self.many_cells = listener.cell_count()
-        self.search = Search(Hearers(sender, [listener]))
+        self.search = search_from_start(Hearers(sender, [listener]))
         self.hearers = Hearers(sender, [listener, listener])
         self.made = [entry_bases(self.search, listener.control_count(), self.many_cells)]
         self.ended = False

@@ -136,6 +136,11 @@ def is_message(burdens, value):
     return is_tuple_of_integers(value[1], burdens[value[0]])
 
 
+def are_messages(burdens, value):
+    """Tell whether the value is a list of messages."""
+    return isinstance(value, list) and all([is_message(burdens, item) for item in value])
+
+
 def is_word(kinds, value):
     """Tell whether the value is a list of 0 to 12 kinds."""
     if not isinstance(value, list) or len(value) > MOST_WORD:

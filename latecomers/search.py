@@ -1,4 +1,4 @@
-"""A search for the stands behind let runs, shorter runs first."""
+"""A search for the stands behind runs that are let, shorter runs first."""
 
 from latecomers.spans import Span
 from latecomers.tables import handed_out
@@ -17,7 +17,7 @@ class Find:
 
 
 class Search:
-    """Finds whose vectors span, at each key, the vectors behind all let runs.
+    """Finds whose vectors span, at each key, the vectors behind all runs that are let from the first stands.
 
     A form that is not 0 behind some run of a length is not 0 behind some find
     of at most this length. For this it is enough to try messages of which at
@@ -26,12 +26,11 @@ class Search:
     order of the lengths of their runs, so the earlier ones are not longer.
     """
 
-    def __init__(self, hearers):
+    def __init__(self, hearers, key, vector):
         self.hearers = hearers
         self.spans = {}
         self.finds = []
-        first_key = hearers.all_keys()[0]
-        self.offer(Find(first_key, unit_form(hearers.width, 0), -1, None))
+        self.offer(Find(key, vector, -1, None))
         at = 0
         while at < len(self.finds):
             self.go_on(at)
@@ -63,7 +62,7 @@ class Search:
         return None
 
     def run(self, at):
-        """Return the messages that lead from the start to the find at this index."""
+        """Return the messages that lead from the first stands to the find at this index."""
         messages = []
         while self.finds[at].before != -1:
             messages.append(self.finds[at].message)
@@ -75,5 +74,10 @@ class Search:
         return {key: self.spans[key].basis() for key in self.spans}
 
     def table(self):
-        """Return the least closed table that contains the start."""
+        """Return the least closed table that contains the first stands."""
         return handed_out(self.bases())
+
+
+def search_from_start(hearers):
+    """Return the search from the starts of all hearers, at state 0."""
+    return Search(hearers, hearers.all_keys()[0], unit_form(hearers.width, 0))

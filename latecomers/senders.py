@@ -1,7 +1,7 @@
 """Senders: they emit messages of certain kinds without end."""
 
 from latecomers.errors import NoSender, NoState, NoWord, Unlike
-from latecomers.listeners import MOST_KINDS
+from latecomers.listeners import MOST_KINDS, are_messages
 from latecomers.values import ascends, is_index
 
 MOST_STATES = 2
@@ -76,6 +76,27 @@ def check_fit(listener, sender):
         for kind, behind in of_state:
             if kind >= listener.kind_count():
                 raise Unlike()
+
+
+def check_like(one, other):
+    """Raise Unlike if the burdens of the two hearers are not equal."""
+    if one.burdens != other.burdens:
+        raise Unlike()
+
+
+def ends(sender, messages):
+    """Return the states at which a list of messages from state 0 can end."""
+    return sender.followed([0], [kind for kind, numbers in messages])
+
+
+def list_fault(listener, sender, state, thing):
+    """Return the first fault of the thing as a list of messages that is let from the state, or None."""
+    if not are_messages(listener.burdens, thing):
+        return ("form",)
+    index = first_unlet(sender, state, thing)
+    if index is not None:
+        return "way", index
+    return None
 
 
 def first_unlet(sender, state, messages):

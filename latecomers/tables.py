@@ -102,16 +102,35 @@ def carried_vectors(parts):
     return [[0, *column] for column in zip(*tails)]
 
 
-def first_open(hearers, bases):
-    """Return the first key and its first way along which the table is not closed, or None.
+def spans_of(hearers, bases):
+    """Return, for each key of the table, the span of its space."""
+    return {key: basis_span(hearers.width, bases[key]) for key in bases}
+
+
+def first_outside(hearers, bases, spans):
+    """Return the first key and its first way along which the image is not in these spans, or None.
 
     It is the tuple of the key, followed by the kind and the next state of the way.
     """
-    spans = {key: basis_span(hearers.width, bases[key]) for key in bases}
     for key in sorted(bases):
         for kind, behind, effect in hearers.steps[key]:
             if behind not in spans or not lie_in(spans[behind], effect.image(bases[key])):
                 return (*key, kind, behind[0])
+    return None
+
+
+def closed_fault(hearers, thing):
+    """Return the first fault of the thing as a closed table that contains the start, or None."""
+    if not is_table(hearers, thing):
+        return ("form",)
+    bases = bases_of(thing)
+    spans = spans_of(hearers, bases)
+    first_key = hearers.all_keys()[0]
+    if first_key not in spans or not spans[first_key].has(unit_form(hearers.width, 0)):
+        return ("start",)
+    way = first_outside(hearers, bases, spans)
+    if way is not None:
+        return ("closed", *way)
     return None
 
 
@@ -131,6 +150,12 @@ def handed_out(bases):
 def bases_of(table):
     """Return the spaces of a table that was handed in, by their keys."""
     return {item[:-1]: item[-1] for item in table}
+
+
+def has_all_keys(hearers, value):
+    """Tell whether the value is a dict with exactly all keys."""
+    known = hearers.all_keys()
+    return isinstance(value, dict) and len(value) == len(known) and all([key in value for key in known])
 
 
 def is_table(hearers, value):

@@ -165,3 +165,76 @@ def spoil_item(draw, thing):
         vector = [draw.choice([0, 0, 1, draw.randint(-3, 3)]) for _ in range(width)]
         kept = basis if choice > 7 else basis[:-1]
         thing[at] = (*key, canonical(kept + [vector]))
+
+
+def with_shows(draw, parts):
+    """Return the parts with shows that often leave some of the cells unseen."""
+    burdens, rules, _ = parts
+    cells, same = len(rules[0][0][1]), draw.random() < 0.6
+    count = draw.randint(0, 2)
+
+    def row():
+        if draw.random() < 0.3:
+            return [draw.choice([0, 0, 1, -1, 2]) for _ in range(1 + cells)]
+        return [0] + [int(at == draw.randrange(cells)) for at in range(cells)]
+
+    shows = [[row() for _ in range(count if same else draw.randint(0, 2))] for _ in rules]
+    if draw.random() < 0.4:
+        shows = [copy.deepcopy(shows[0]) for _ in shows]
+    return burdens, rules, shows
+
+
+def spoiled_parts(draw, parts):
+    """Return the parts with one coefficient, one control behind a message or one show changed."""
+    burdens, rules, shows = copy.deepcopy(parts)
+    control = draw.randrange(len(rules))
+    kind, choice = draw.randrange(len(burdens)), draw.randrange(4)
+    behind, rows = rules[control][kind]
+    if choice < 2:
+        row = draw.choice(rows)
+        row[draw.randrange(len(row))] = draw.randint(-2, 2)
+    elif choice == 2:
+        rules[control][kind] = (draw.randrange(len(rules)), rows)
+    elif shows[control]:
+        row = draw.choice(shows[control])
+        row[draw.randrange(len(row))] += draw.choice([1, -1])
+    return burdens, rules, shows
+
+
+def other_way_to_write(draw, rules):
+    """Return rules that do the same with other cells and controls, and how to tell the same of them.
+
+    The cells are exchanged and some negated, there may be one more cell that no other one depends on, and there may
+    be a second copy of a control. The answer is the rules, a function that turns a row over the old cells into one
+    over the new ones, and for each new control the old one.
+    """
+    cells = len(rules[0][0][1])
+    places, signs = draw.sample(range(cells), cells), [draw.choice([1, 1, -1]) for _ in range(cells)]
+    more = draw.randint(0, 1) if cells < 3 else 0
+    origin = list(range(len(rules)))
+    if len(rules) < 3 and draw.random() < 0.5:
+        origin.append(draw.randrange(len(rules)))
+
+    def turned_row(row):
+        turned = [row[0]] + [0] * (cells + more) + list(row[1 + cells:])
+        for at in range(cells):
+            turned[1 + places[at]] = signs[at] * row[1 + at]
+        return turned
+
+    def turned_rule(rule):
+        behind, rows = rule
+        behind = draw.choice([control for control, old in enumerate(origin) if old == behind])
+        turned = [None] * cells
+        for at, row in enumerate(rows):
+            turned[places[at]] = [signs[at] * entry for entry in turned_row(row)]
+        turned += [[draw.randint(-2, 2) for _ in turned[0]] for _ in range(more)]
+        return behind, turned
+
+    return [[turned_rule(rule) for rule in rules[old]] for old in origin], turned_row, origin
+
+
+def same_in_other_words(draw, parts):
+    """Return the parts of another listener that always sees the same."""
+    burdens, rules, shows = parts
+    turned, turned_row, origin = other_way_to_write(draw, rules)
+    return list(burdens), turned, [[turned_row(row) for row in shows[old]] for old in origin]

@@ -15,10 +15,15 @@ def echelon(vectors):
             continue
         rows = [row for row in rows if row is not chosen]
         chosen = [entry / chosen[column] for entry in chosen]
-        rows = [[x - row[column] * y for x, y in zip(row, chosen)] for row in rows]
-        done = [[x - row[column] * y for x, y in zip(row, chosen)] for row in done]
+        rows = [less(row, row[column], chosen) for row in rows]
+        done = [less(row, row[column], chosen) for row in done]
         done.append(chosen)
     return done
+
+
+def less(row, factor, other):
+    """Return the row less the factor times the other one."""
+    return [x - factor * y if y else x for x, y in zip(row, other)] if factor else row
 
 
 def canonical(vectors):

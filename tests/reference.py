@@ -71,6 +71,11 @@ class World:
                     return (*key, *way)
         return None
 
+    def is_space(self, basis):
+        if type(basis) is not list or any(type(vector) is not list for vector in basis):
+            return False
+        return not fault_of_form(self.width, basis)
+
     def is_table(self, thing):
         if type(thing) is not list:
             return False
@@ -79,10 +84,7 @@ class World:
                 return False
             if any(type(index) is not int for index in item[:-1]) or item[:-1] not in self.keys():
                 return False
-            basis = item[-1]
-            if type(basis) is not list or any(type(vector) is not list for vector in basis):
-                return False
-            if fault_of_form(self.width, basis) or not any(vector[0] for vector in basis):
+            if not self.is_space(item[-1]) or not any(vector[0] for vector in item[-1]):
                 return False
         found = [item[:-1] for item in thing]
         return found == sorted(set(found))
@@ -178,28 +180,100 @@ def table_fault(ways, parts, claims, thing):
     return None
 
 
-def late_fault(ways, parts, claims, many, thing):
-    """Return a word for what keeps the thing from showing that a claim is broken behind so many messages, or None."""
-    before, stand, messages = thing
-    rules = parts[1]
-    if not all(is_message(parts, message) for message in before + messages) or len(messages) != many:
-        return "form"
-    if type(stand) is not tuple or stand[0] not in range(len(rules)) or len(stand[1]) != len(rules[0][0][1]):
-        return "form"
-    states = ends(ways, 0, before + messages)
-    if not states:
-        return "way"
-    one = (0, (0,) * len(rules[0][0][1]))
-    for message in before:
-        one = heard(parts, one, message)
+def table_in(table, other):
+    return all(key in other and lies_in(basis, other[key]) for key, basis in table.items())
+
+
+def from_fault(ways, parts, claims, k, thing):
+    world = pairs_world(ways, parts)
+    if type(thing) is not list or len(thing) < k + 1 or not all(world.is_table(item) for item in thing):
+        return ("form",)
+    tables = [as_dict(item) for item in thing]
+    if not table_in(entries(ways, parts), tables[0]):
+        return ("entries",)
+    for index in range(len(tables) - 1):
+        if not table_in(world.behind_one_more(tables[index]), tables[index + 1]):
+            return ("next", index)
+    if not table_in(world.behind_one_more(tables[-1]), tables[-1]):
+        return ("closed",)
+    for index in range(k, len(tables)):
+        if not all_hold(claims, tables[index]):
+            return ("claim", index)
+    return None
+
+
+def never_fault(ways, parts, claims, thing):
+    world = pairs_world(ways, parts)
+    if not world.is_table(thing):
+        return ("form",)
+    table, joining = as_dict(thing), entries(ways, parts)
+    for key in sorted(table):
+        if key not in joining or not lies_in(table[key], joining[key]):
+            return ("entries", *key)
+    fed = world.behind_one_more(table)
+    for key in sorted(table):
+        if not lies_in(table[key], fed.get(key, [])):
+            return ("fed", *key)
+    return ("kept",) if all_hold(claims, table) else None
+
+
+def is_stand(parts, value):
+    if type(value) is not tuple or len(value) != 2 or type(value[0]) is not int or type(value[1]) is not tuple:
+        return False
+    cells = len(parts[1][0][0][1])
+    return value[0] in range(len(parts[1])) and len(value[1]) == cells and all(type(cell) is int for cell in value[1])
+
+
+def behind_all(parts, stand, messages):
     for message in messages:
-        one, stand = heard(parts, one, message), heard(parts, stand, message)
-    vector = [1, *one[1], *stand[1]]
-    broken = [form for state in states for form in claims[state, one[0], stand[0]] if value(form, vector)]
-    return None if broken else "kept"
+        stand = heard(parts, stand, message)
+    return stand
+
+
+def start_of(parts):
+    return 0, (0,) * len(parts[1][0][0][1])
+
+
+def late_fault(ways, parts, claims, many, thing):
+    """Return the first fault of the thing as a run behind whose last messages a claim is broken, or None."""
+    if type(thing) is not tuple or len(thing) != 3:
+        return ("form",)
+    before, stand, messages = thing
+    if not are_messages(parts, before) or not are_messages(parts, messages):
+        return ("form",)
+    if not is_stand(parts, stand) or len(messages) != many:
+        return ("form",)
+    index = first_unlet(ways, 0, before)
+    if index is not None:
+        return ("before", index)
+    index = first_unlet(ways, 0, before + messages)
+    if index is not None:
+        return ("messages", index - len(before))
+    one = behind_all(parts, start_of(parts), before + messages)
+    late = behind_all(parts, stand, messages)
+    vector = [1, *one[1], *late[1]]
+    for state in ends(ways, 0, before + messages):
+        if any(value(form, vector) for form in claims[state, one[0], late[0]]):
+            return None
+    return ("kept",)
+
+
+def are_messages(parts, thing):
+    return type(thing) is list and all(is_message(parts, item) for item in thing)
 
 
 def is_message(parts, message):
+    if type(message) is not tuple or len(message) != 2:
+        return False
     kind, numbers = message
-    return type(message) is type(numbers) is tuple and len(numbers) == parts[0][kind] and all(
-        type(number) is int for number in numbers)
+    if type(kind) is not int or kind not in range(len(parts[0])) or type(numbers) is not tuple:
+        return False
+    return len(numbers) == parts[0][kind] and all(type(number) is int for number in numbers)
+
+
+def list_fault(ways, parts, state, thing):
+    """Return the first fault of the thing as a list of messages that is let from the state, or None."""
+    if not are_messages(parts, thing):
+        return ("form",)
+    index = first_unlet(ways, state, thing)
+    return None if index is None else ("way", index)

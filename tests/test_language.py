@@ -44,6 +44,9 @@ INTERFACE = {
     "senders": "Sender",
     "reach": "reach settle table_fault run_fault",
     "late": "entries after level when_sure late_run sure_cells last_claims",
+    "latejudges": "from_fault late_fault never_fault",
+    "alike": "parted part_fault forms_table forms_fault",
+    "pairs": "alike_listeners pair_fault pair_run_fault",
 }
 
 LISTED_METHODS = {
@@ -52,6 +55,10 @@ LISTED_METHODS = {
     "Script": "__init__",
     "Sender": "__init__ state_count ways states_behind lets",
 }
+
+# What iterates at once over the call that is its first argument.
+AT_ONCE = set("list tuple dict sorted sum any all enumerate zip min max".split())
+PASSING = set("zip enumerate reversed range items keys values".split())
 
 
 def sources():
@@ -163,13 +170,14 @@ class LanguageTest(unittest.TestCase):
 
     def test_names(self):  # L8, L12, L15, L17
         imported = {alias.name for _, node in self.nodes(ast.ImportFrom) for alias in node.names}
+        decorators = {id(other) for _, node in self.nodes(ast.FunctionDef) for other in node.decorator_list}
         for where, name in self.bound_names():
             plain = re.fullmatch(r"[A-Za-z][A-Za-z0-9_]*", name)
             self.assertTrue(plain or name[2:-2] in DOUBLE and name == f"__{name[2:-2]}__", f"{where}: {name}")
             self.assertNotIn(name, NO_NAMES, where)
         for where, node in self.nodes(ast.Name, ast.arg, ast.FunctionDef, ast.ClassDef):
             if isinstance(node, ast.Name) and isinstance(node.ctx, ast.Load):
-                if node.id in dir(builtins):
+                if node.id in dir(builtins) and id(node) not in decorators:
                     self.assertIn(node.id, BUILTINS, where)
             else:
                 name = getattr(node, "id", None) or getattr(node, "arg", None) or node.name
@@ -199,11 +207,81 @@ class LanguageTest(unittest.TestCase):
         stored = {node.attr for _, node in self.nodes(ast.Attribute) if isinstance(node.ctx, ast.Store)}
         self.assertFalse(methods & stored)
         called = {id(node.func) for _, node in self.nodes(ast.Call)}
+        setters = {id(other) for _, node in self.nodes(ast.FunctionDef) for other in node.decorator_list}
         for where, node in self.nodes(ast.Attribute):
             if id(node) in called:
                 self.assertIn(node.attr, methods | METHODS | {"__init__"}, where)
-            elif isinstance(node.ctx, ast.Load):
+            elif isinstance(node.ctx, ast.Load) and id(node) not in setters:
                 self.assertIn(node.attr, stored | methods | properties, where)
+        self.assertFalse(properties & (methods | stored | METHODS))
+
+    def test_decorators(self):  # L4, L5
+        for where, node in self.nodes(ast.FunctionDef, ast.ClassDef):
+            for decorator in node.decorator_list:
+                self.assertIn(ast.unparse(decorator), ("property", f"{node.name}.setter"), where)
+
+    def test_annotations_and_defaults(self):  # L4, L21
+        for where, node in self.nodes(ast.arg):
+            self.assertIsNone(node.annotation, where)
+        for where, node in self.nodes(ast.FunctionDef, ast.Lambda):
+            for default in node.args.defaults + [item for item in node.args.kw_defaults if item]:
+                self.assertIsInstance(default, ast.Constant, where)
+            self.assertFalse(node.args.posonlyargs, where)
+
+    def test_iterated_at_once(self):  # L23
+        generators = {node.name for _, node in self.nodes(ast.FunctionDef)
+                      if any(isinstance(inner, (ast.Yield, ast.YieldFrom)) for inner in ast.walk(node))}
+        self.assertFalse(generators)
+        placed = set()
+        for where, node in self.nodes(ast.For, ast.comprehension):
+            placed.add(id(node.iter))
+        for where, node in self.nodes(ast.Call):
+            if isinstance(node.func, ast.Name) and node.func.id in AT_ONCE and node.args:
+                placed.update(id(argument) for argument in node.args)
+            if isinstance(node.func, ast.Name) and node.func.id == "reversed":
+                placed.update(id(argument) for argument in node.args if ast.unparse(argument).startswith("range("))
+        for where, node in self.nodes(ast.Call):
+            name = getattr(node.func, "id", None) or getattr(node.func, "attr", None)
+            if name in PASSING | generators:
+                self.assertIn(id(node), placed, where)
+
+    def test_loops_leave_alone_what_they_iterate_over(self):  # L23
+        for where, node in self.nodes(ast.For):
+            names = {inner.id for inner in ast.walk(node.iter) if isinstance(inner, ast.Name)}
+            for inner in [inner for row in node.body for inner in ast.walk(row)]:
+                if isinstance(inner, ast.AugAssign):
+                    self.assertNotIn(ast.unparse(inner.target), names, where)
+                if isinstance(inner, ast.Call) and isinstance(inner.func, ast.Attribute):
+                    if inner.func.attr in ("append", "extend", "pop", "remove", "clear", "insert", "update"):
+                        self.assertNotIn(ast.unparse(inner.func.value), names, where)
+
+    def test_keywords(self):  # L22
+        own = {node.name for _, node in self.nodes(ast.FunctionDef, ast.ClassDef)}
+        for where, node in self.nodes(ast.Call):
+            if isinstance(node.func, ast.Name) and node.func.id not in own:
+                for keyword in node.keywords:
+                    self.assertIn((node.func.id, keyword.arg), [("sorted", "key")], where)
+
+    def test_blocks_that_end(self):  # L6
+        for where, node in self.nodes(ast.With):
+            for item in node.items:
+                self.assertIsInstance(item.context_expr, ast.Name, where)
+        for where, node in self.nodes(ast.FunctionDef):
+            if node.name == "__exit__":
+                for row in node.body:
+                    self.assertIsInstance(row, ast.Assign, where)
+                    self.assertRegex(ast.unparse(row), r"^self\.[a-z]+ = self(\.[a-z]+)+$", where)
+            if node.name == "__len__":
+                self.assertRegex(ast.unparse(node.body[0]), r"^return len\(", where)
+        for where, node in self.nodes(ast.Try):
+            self.fail(f"{where}: nothing here needs a try")
+
+    def test_no_import_is_left_over(self):
+        for name, tree in self.trees.items():
+            used = {node.id for node in ast.walk(tree) if isinstance(node, ast.Name)}
+            for node in tree.body:
+                if isinstance(node, ast.ImportFrom):
+                    self.assertFalse({alias.name for alias in node.names} - used, name)
 
     def test_interface_stands_where_it_is_listed(self):
         for name, listed in INTERFACE.items():

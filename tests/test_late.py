@@ -9,21 +9,10 @@ from latecomers.late import after, entries, last_claims, late_run, level, sure_c
 from latecomers.listeners import Listener
 from latecomers.reach import reach
 from latecomers.senders import Sender
-from test_reach import adder, anything, counter, lists_in, shifter, turns
+from samples import NO_INTEGERS, NO_LISTS, adder, anything, counter, lists_in, pair, shifter, steady, turns
 
-NO_INTEGERS = [True, False, None, "0", 0.0, b"0", [0], (0,), {}]
-NO_LISTS = [None, True, 0, 1, "ab", "", b"a", (), {}, ([],)]
 WHOLE = [[1, 0, 0], [0, 1, 0], [0, 0, 1]]
 LEVEL = [[1, 0, 0], [0, 1, 1]]
-
-
-def steady():
-    return Sender([[(0, 0)]])
-
-
-def pair():
-    """Two controls, one cell: kind 0 goes to control 1 and sets the cell, kind 1 keeps the control and adds 1."""
-    return Listener([1, 0], [[(1, [[0, 0, 1]]), (0, [[1, 1]])], [(1, [[0, 0, 1]]), (1, [[1, 1]])]], [[], []])
 
 
 def both_once():

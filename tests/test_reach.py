@@ -7,43 +7,9 @@ from latecomers.errors import NoClaims, Unlike
 from latecomers.listeners import Listener
 from latecomers.reach import reach, run_fault, settle, table_fault
 from latecomers.senders import Sender
+from samples import KEEP, NO_INTEGERS, NO_LISTS, adder, anything, counter, lists_in, shifter, turns
 
-NO_INTEGERS = [True, False, None, "0", 0.0, b"0", [0], (0,), {}]
-NO_LISTS = [None, True, 0, 1, "ab", "", b"a", (), {}, ([],)]
-
-KEEP = [[0, 1, 0], [0, 0, 1]]
 PLANE = [[1, 0], [0, 1]]
-
-
-def adder():
-    """The listener L of the document."""
-    return Listener([1, 1], [[(0, [[0, 0, 1]]), (0, [[0, 1, 1]])]], [[[0, 1]]])
-
-
-def turns():
-    """The sender S of the document."""
-    return Sender([[(1, 1)], [(0, 0)]])
-
-
-def anything():
-    """The sender T of the document."""
-    return Sender([[(0, 0), (1, 0)]])
-
-
-def counter():
-    """Two cells and three controls; control 2 is never reached from control 0 or 1.
-
-    Kind 0 adds 1 to cell 0 and 2 to cell 1, and takes control 0 to 1 and 1 to 0.
-    """
-    step = [[1, 1, 0], [2, 0, 1]]
-    return Listener([0], [[(1, step)], [(0, step)], [(2, KEEP)]], [[], [], []])
-
-
-def shifter():
-    """Three cells in a row: each message shifts its integer into the first."""
-    return Listener([1], [[(0, [[0, 0, 0, 0, 1], [0, 1, 0, 0, 0], [0, 0, 1, 0, 0]])]], [[]])
-
-
 STEADY = [(0, 0)]
 
 
@@ -347,18 +313,6 @@ class ReachLeavesAloneTest(unittest.TestCase):
         listener, sender = adder(), turns()
         self.assertIsNone(table_fault(listener, sender, [[]], settle(listener, sender, [[]])[1]))
         self.assertIsNone(run_fault(listener, sender, [[[0, 1]]], settle(listener, sender, [[[0, 1]]])[1]))
-
-
-def lists_in(value):
-    """Return all lists within the value, as often as they occur."""
-    found = [value] if isinstance(value, list) else []
-    if isinstance(value, (list, tuple)):
-        for item in value:
-            found += lists_in(item)
-    if isinstance(value, dict):
-        for item in value.values():
-            found += lists_in(item)
-    return found
 
 
 if __name__ == "__main__":
