@@ -238,3 +238,85 @@ def same_in_other_words(draw, parts):
     burdens, rules, shows = parts
     turned, turned_row, origin = other_way_to_write(draw, rules)
     return list(burdens), turned, [[turned_row(row) for row in shows[old]] for old in origin]
+
+
+def settable_parts(draw):
+    """Return parts of a listener and, for each control, a speech that sets a late one to what the cells are.
+
+    At control 0 a message of kind k goes to control k and sets the first two cells, perhaps to a few more or less
+    than it carries. What else there is may let the speech fail: other rules may change the third cell, which is set
+    to 0; and the start, with all cells 0, may be what no speech brings about.
+    """
+    cells, controls = draw.randint(1, 3), draw.randint(1, 3)
+    kinds = draw.randint(controls, 3)
+    burdens = [min(cells, 2)] * controls + [draw.randint(0, 2) for _ in range(kinds - controls)]
+    calm = draw.random() < 0.6
+
+    def any_row(burden, at):
+        return [0] * (1 + cells + burden) if at == 2 and calm else plain_row(draw, cells, burden, at)
+
+    rules = [[(draw.randrange(controls), [any_row(burden, at) for at in range(cells)]) for burden in burdens]
+             for _ in range(controls)]
+    more = [draw.choice([0, 0, 2, -3]) for _ in range(cells)]
+    for kind in range(controls):
+        rows = [[int(column == 1 + cells + at) if at < 2 else 0 for column in range(1 + cells + burdens[kind])]
+                for at in range(cells)]
+        for row, constant in zip(rows[:2], more):
+            row[0] = constant
+        rules[0][kind] = (kind, rows)
+    unit = [[-more[at]] + [int(column == at) for column in range(cells)] for at in range(cells)]
+    speeches = []
+    for control in range(controls):
+        # Messages of kind 0 before the last one change nothing behind it.
+        vain = [(0, [[draw.randint(-2, 2) for _ in range(1 + cells)] for _ in range(burdens[0])])
+                for _ in range(draw.choice([0, 0, 1, 3]))]
+        speeches.append(vain + [(control, [list(row) for row in unit[:2]])])
+    return with_shows(draw, (burdens, rules, [[] for _ in rules])), speeches
+
+
+def shifting_parts(draw):
+    """Return parts of a listener that shifts its cells, and a speech that fills a late one."""
+    cells = draw.randint(1, 3)
+    rows = [[0] * (1 + cells) + [1]] + [[int(column == at) for column in range(1 + cells)] + [0] for at in range(1, cells)]
+    speech = [(0, [[int(column == 1 + at) for column in range(1 + cells)]]) for at in reversed(range(cells))]
+    vain = [(0, [[draw.randint(-2, 2) for _ in range(1 + cells)]]) for _ in range(draw.choice([0, 0, 1]))]
+    return with_shows(draw, ([1], [[(0, rows)]], [[]])), [vain + speech]
+
+
+def drawn_chase(draw):
+    """Return the parts of a listener and those of a chaser, which often brings a late listener level."""
+    if draw.random() < 0.1:
+        parts = with_shows(draw, plain_parts(draw))
+        speeches = [[] for _ in parts[1]]
+    else:
+        parts, speeches = draw.choice([settable_parts, settable_parts, shifting_parts])(draw)
+    rules, turned_row, origin = other_way_to_write(draw, parts[1])
+    told = [[(kind, [turned_row(row) for row in rows]) for kind, rows in speeches[old]] for old in origin]
+    chaser = (list(parts[0]), rules, told)
+    if draw.random() < 0.2:
+        chaser = (*spoiled_parts(draw, (parts[0], rules, [[] for _ in rules]))[:2], told)
+    elif draw.random() < 0.35:
+        chaser = spoiled_speeches(draw, chaser)
+    return parts, chaser
+
+
+def spoiled_speeches(draw, chaser):
+    """Return the chaser with another speech at one control."""
+    burdens, rules, speeches = copy.deepcopy(chaser)
+    speech = draw.choice(speeches)
+    choice = draw.randrange(4)
+    if choice == 0 and speech:
+        speech.pop(draw.randrange(len(speech)))
+    elif choice == 1:
+        speech.clear()
+    elif choice == 2 and len(speech) < 4:
+        kind = draw.randrange(len(burdens))
+        width = 1 + len(rules[0][0][1])
+        speech.insert(draw.randint(0, len(speech)), (kind, [[draw.randint(-1, 1) for _ in range(width)]
+                                                            for _ in range(burdens[kind])]))
+    elif speech:
+        kind, rows = draw.choice(speech)
+        if rows:
+            row = draw.choice(rows)
+            row[draw.randrange(len(row))] += draw.choice([1, -1])
+    return burdens, rules, speeches

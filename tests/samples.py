@@ -2,6 +2,8 @@
 
 import copy
 
+from latecomers.chasers import Chaser
+from latecomers.ears import Ear
 from latecomers.listeners import Listener
 from latecomers.senders import Sender
 
@@ -24,6 +26,11 @@ def turns():
 def anything():
     """The sender T of the document."""
     return Sender([[(0, 0), (1, 0)]])
+
+
+def copier():
+    """The chaser C of the document."""
+    return Chaser([1, 1], [[(0, [[0, 0, 1]]), (0, [[0, 1, 1]])]], [[(0, [[0, 1]])]])
 
 
 def steady():
@@ -61,7 +68,8 @@ def odd_things():
             (), (0,), (0, 0), (0, 0, []), {}, {0: 0}, {(0, 0, 0): None}, set(), {1}, frozenset(), range(3), slice(0, 1),
             iter([]), (item for item in ()), memoryview(b"ab"), object(), int, len, Ellipsis, NotImplemented,
             ValueError("a"), lists_in, lambda: 0, deep_tuple, [None], [True], [0], ["ab"], [[]], [()], [{}], [set()], [0.5],
-            [[None]], [(None,)], [[[]]], deep, adder(), turns(), [adder()], [turns()], (adder(),), (adder(), adder(), adder()), ([], None, []), {0: adder()}]
+            [[None]], [(None,)], [[[]]], deep, adder(), turns(), copier(), Ear(adder()), [adder()], [turns()],
+            [Ear(adder())], (adder(),), (adder(), adder(), adder()), ([], None, []), {0: adder()}]
 
 
 def lists_in(value):

@@ -117,6 +117,18 @@ class FromFaultTest(unittest.TestCase):
         self.assertEqual(self.fault([*self.tables, two, two, two, UNCLOSED]), ("closed",))
         self.assertEqual(self.fault([whole_table()] * 3 + [one]), ("claim", 2))
 
+    def test_one_table_over_and_over_is_looked_at_once_at_least(self):
+        # At control 2, which no pair of the entries has, the cells are moved out of the space.
+        step = [[1, 1, 0], [2, 0, 1]]
+        listener = Listener([0], [[(1, step)], [(0, step)], [(2, step)]], [[], [], []])
+        table = entries(listener, steady())
+        claims = {key: [] for key in level(listener, steady(), [])}
+        self.assertIsNone(from_fault(listener, steady(), claims, 0, [table] * 3))
+        table = table + [(0, 2, 2, [[1, 0, 0, 0, 0]])]
+        self.assertEqual(from_fault(listener, steady(), claims, 0, [table]), ("closed",))
+        for many in (2, 3, 9):
+            self.assertEqual(from_fault(listener, steady(), claims, 0, [table] * many), ("next", 0))
+
     def test_closed(self):
         self.assertEqual(self.fault([*self.tables, UNCLOSED]), ("closed",))
         self.assertEqual(self.fault([*self.tables, UNCLOSED], 1, {key: [] for key in self.claims}), ("closed",))
