@@ -90,6 +90,19 @@ class World:
         return found == sorted(set(found))
 
 
+def closed_greater(draw, world, most=1):
+    """Return a closed table that contains the start and may be greater than the least one."""
+    table = world.least_table()
+    for _ in range(draw.randint(0, 2)):
+        key = draw.choice(world.keys())
+        vector = [draw.randint(-most, most) for _ in range(world.width)]
+        table[key] = canonical(table.get(key, [[1] + [0] * (world.width - 1)]) + [vector])
+    while world.open_way(table):
+        for key, vectors in world.all_images(table).items():
+            table[key] = canonical(table.get(key, []) + vectors)
+    return listed(table)
+
+
 def pairs_world(ways, parts):
     return World(ways, parts, parts)
 

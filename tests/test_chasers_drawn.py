@@ -9,7 +9,6 @@ import slow_chase
 import slow_forms
 from drawing import (
     drawn_chase, drawn_let_word, drawn_message, drawn_stand, drawn_ways, heard, small_message, spoiled_table)
-from independent import canonical
 from latecomers.alike import parted
 from latecomers.chasers import Chaser, brings_alike, brings_level, chase_fault, chase_run_fault
 from latecomers.listeners import Listener
@@ -91,22 +90,10 @@ class DrawnChasersTest(unittest.TestCase):
                 message = small_message(self.draw, case.parts[0], kind)
                 one, late = heard(case.parts, one, message), heard(case.parts, late, message)
 
-    def closed_greater(self, case):
-        """Return a closed table that is greater than the least one."""
-        table = case.world.least_table()
-        for _ in range(self.draw.randint(0, 2)):
-            key = self.draw.choice(case.world.keys())
-            vector = [self.draw.randint(-1, 1) for _ in range(case.world.width)]
-            table[key] = canonical(table.get(key, [[1] + [0] * (case.world.width - 1)]) + [vector])
-        while case.world.open_way(table):
-            for key, vectors in case.world.all_images(table).items():
-                table[key] = canonical(table.get(key, []) + vectors)
-        return reference.listed(table)
-
     def test_chase_fault_returns_the_first_fault(self):
         words = {}
         for case in self.all_cases:
-            for base in (reference.listed(case.world.least_table()), self.closed_greater(case)):
+            for base in (reference.listed(case.world.least_table()), reference.closed_greater(self.draw, case.world)):
                 for thing in (base, spoiled_table(self.draw, base)):
                     before = copy.deepcopy(thing)
                     for alike in (False, True):

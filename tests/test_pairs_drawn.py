@@ -9,7 +9,6 @@ import slow_forms
 from drawing import (
     drawn_let_word, drawn_ways, heard, plain_parts, same_in_other_words, small_message, spoiled_parts, spoiled_table,
     with_shows)
-from independent import canonical
 from latecomers.listeners import Listener
 from latecomers.pairs import alike_listeners, pair_fault, pair_run_fault
 from latecomers.senders import Sender
@@ -75,22 +74,10 @@ class DrawnPairsTest(unittest.TestCase):
             stand, late = heard(case.one, stand, message), heard(case.other, late, message)
             self.assertEqual(slow_forms.seen(case.one, stand), slow_forms.seen(case.other, late))
 
-    def closed_greater(self, case):
-        """Return a closed table that is greater than the least one."""
-        table = case.world.least_table()
-        for _ in range(self.draw.randint(0, 2)):
-            key = self.draw.choice(case.world.keys())
-            vector = [self.draw.randint(-1, 1) for _ in range(case.world.width)]
-            table[key] = canonical(table.get(key, [[1] + [0] * (case.world.width - 1)]) + [vector])
-        while case.world.open_way(table):
-            for key, vectors in case.world.all_images(table).items():
-                table[key] = canonical(table.get(key, []) + vectors)
-        return reference.listed(table)
-
     def test_pair_fault_returns_the_first_fault(self):
         words = {}
         for case in self.all_cases[:200]:
-            for base in (reference.listed(case.world.least_table()), self.closed_greater(case)):
+            for base in (reference.listed(case.world.least_table()), reference.closed_greater(self.draw, case.world)):
                 for thing in (base, spoiled_table(self.draw, base), spoiled_table(self.draw, base)):
                     before = copy.deepcopy(thing)
                     expected = slow_forms.pair_fault(case.ways, case.one, case.other, thing)

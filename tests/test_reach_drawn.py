@@ -127,23 +127,10 @@ class DrawnReachTest(unittest.TestCase):
             table = world.behind_one_more(table)
         self.fail("no run is that long")
 
-    def closed_greater(self, parts, ways):
-        """Return a closed table that is greater than the least one."""
-        world = reference.World(ways, parts)
-        table = world.least_table()
-        for _ in range(self.draw.randint(0, 2)):
-            key = self.draw.choice(world.keys())
-            vector = [self.draw.randint(-2, 2) for _ in range(world.width)]
-            table[key] = canonical(table.get(key, [[1] + [0] * (world.width - 1)]) + [vector])
-        while world.open_way(table):
-            for key, vectors in world.all_images(table).items():
-                table[key] = canonical(table.get(key, []) + vectors)
-        return reference.listed(table)
-
     def test_table_fault_returns_the_first_fault(self):
         words = {}
         for parts, ways, listener, sender in self.cases(250):
-            table = self.closed_greater(parts, ways)
+            table = reference.closed_greater(self.draw, reference.World(ways, parts), 2)
             for thing in [table] + [spoiled_table(self.draw, table) for _ in range(4)]:
                 claims = self.any_claims(parts, reference.as_dict(table))
                 expected = reference.table_fault(ways, parts, claims, thing)
