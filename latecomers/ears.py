@@ -1,7 +1,7 @@
 """Ears: listening copies of a listener, which change as they hear."""
 
 from latecomers.errors import NoCell, NoMessage, NoNumber, NoStand
-from latecomers.listeners import is_message
+from latecomers.listeners import Listener, is_message
 from latecomers.values import is_index, is_integer
 
 
@@ -18,8 +18,7 @@ class Ear:
     """One listening copy of a listener."""
 
     def __init__(self, listener):
-        # A listener never changes, so the ear need not copy it.
-        self.listener = listener
+        self.listener = Listener(listener.burdens, listener.rules, listener.shows)
         self.place = listener.start()
         # The messages heard. The list is never changed, only replaced, so that a mark may keep it.
         self.record = []

@@ -122,6 +122,14 @@ class EarTest(unittest.TestCase):
         self.assertEqual((one.cells, other.cells, len(other)), ((5,), (0,), 0))
         self.assertTrue(listener == adder())
 
+    def test_it_copies_what_it_is_created_from(self):
+        listener = adder()
+        ear = Ear(listener)
+        ear.hear(add(5))
+        listener.__init__([0], [[(0, [[7, 0]])]], [[]])
+        ear.hear(add(2))
+        self.assertEqual(looked_at(ear), ((0, (7,)), 0, (7,), 2, (7,)))
+
     def test_two_hundred_messages_and_settings(self):
         ear = Ear(Listener([2], [[(0, [[9] * 6] * 3)]], [[]]))
         for at in range(66):
